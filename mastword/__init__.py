@@ -1,0 +1,1 @@
+"""Mastword: signs handed on along a line of masts."""
