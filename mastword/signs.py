@@ -16,11 +16,16 @@ def is_sign(number):
     return 1 <= number <= LAST_SIGN
 
 
+def check_signs(numbers):
+    """Refuse numbers of which some are no signs."""
+    if not all(is_sign(number) for number in numbers):
+        # The numbers are left out: Python refuses to write very large ones.
+        raise BadSign("a sign is a number from 1 to 94")
+
+
 def kind_of(sign):
     """The kind of a sign: page, letter, end, strike or spare."""
-    if not is_sign(sign):
-        # The number is left out: Python refuses to write very large ones.
-        raise BadSign("a sign is a number from 1 to 94")
+    check_signs([sign])
     if sign <= LAST_PAGE:
         return "page"
     if sign <= LAST_LETTER:
