@@ -4,32 +4,29 @@ from mastword.errors import BadLine
 from mastword.phrases import is_word
 from mastword.ways import DOWN, UP
 
-NUMBER = "number"
-WAY = "way"
-WORD = "word"
 FIGURES = "0123456789"
 MOST_FIGURES = 6
 
-# What stands behind the name of each deed.
+# What stands behind the name of each deed: numbers, ways and words.
 PARTS = {
-    "send": (WAY, NUMBER),
-    "express": (WAY, NUMBER),
-    "say": (WAY, WORD),
-    "recall": (WAY,),
-    "act": (NUMBER,),
-    "slip": (NUMBER, NUMBER, NUMBER),
-    "doze": (NUMBER,),
-    "wake": (NUMBER,),
-    "fog": (NUMBER,),
-    "lift": (NUMBER,),
+    "send": ("way", "number"),
+    "express": ("way", "number"),
+    "say": ("way", "word"),
+    "recall": ("way",),
+    "act": ("number",),
+    "slip": ("number", "number", "number"),
+    "doze": ("number",),
+    "wake": ("number",),
+    "fog": ("number",),
+    "lift": ("number",),
     "beat": (),
     "settle": (),
     "turn": (),
-    "lose": (WAY, NUMBER, NUMBER),
-    "burn": (NUMBER,),
-    "ask": (WAY, NUMBER, NUMBER),
-    "enter": (NUMBER, NUMBER, WORD),
-    "strike": (NUMBER, NUMBER),
+    "lose": ("way", "number", "number"),
+    "burn": ("number",),
+    "ask": ("way", "number", "number"),
+    "enter": ("number", "number", "word"),
+    "strike": ("number", "number"),
 }
 # Deeds whose last part may stand several times.
 WITH_LISTS = ("send", "express", "say")
@@ -43,11 +40,11 @@ def is_number(text):
 
 def read_part(kind, text):
     """A part of a text that has to be of a kind."""
-    if kind == NUMBER and is_number(text):
+    if kind == "number" and is_number(text):
         return int(text)
-    if kind == WAY and text in (UP, DOWN):
+    if kind == "way" and text in (UP, DOWN):
         return text
-    if kind == WORD and is_word(text):
+    if kind == "word" and is_word(text):
         return text
     raise BadLine("no such part is due there")
 

@@ -1,9 +1,9 @@
 """A desk: a line that is asked by texts."""
 
-from mastword.deeds import NUMBER, WAY, do_deed, read_deed, read_parts
+from mastword.deeds import do_deed, read_deed, read_parts
 from mastword.errors import (
     Asleep, Awake, BadLine, BadPlace, BadSign, BadSigns, BadSlip, Busy, Clear, Fogged, Full, Known, Legible, Lost,
-    NoBook, NoMast, NoRow, NotRaising, NotReady, NothingLeft, NothingWaits, NoWord, Taken,
+    NoBook, NoMast, NoRow, NothingLeft, NothingWaits, NotRaising, NotReady, NoWord, Taken,
 )
 from mastword.page import page
 
@@ -18,16 +18,16 @@ PARTS = {
     "asleep": (),
     "fogs": (),
     "way": (),
-    "waits": (NUMBER,),
-    "waiting": (WAY,),
-    "sent": (WAY,),
-    "heard": (WAY,),
-    "message": (WAY,),
+    "waits": ("number",),
+    "waiting": ("way",),
+    "sent": ("way",),
+    "heard": ("way",),
+    "message": ("way",),
     "under": (),
-    "row": (WAY, NUMBER, NUMBER),
-    "slips": (WAY, NUMBER),
-    "askings": (WAY, NUMBER),
-    "toask": (WAY, NUMBER),
+    "row": ("way", "number", "number"),
+    "slips": ("way", "number"),
+    "askings": ("way", "number"),
+    "toask": ("way", "number"),
     "freed": (),
     "needed": (),
     "words": (),

@@ -3,8 +3,8 @@
 from mastword.arms import REST, runs
 from mastword.deeds import deed_text
 from mastword.errors import (
-    Asleep, Awake, BadCount, BadSlip, Busy, Clear, Fogged, Full, Legible, Lost, NotRaising, NotReady, NothingLeft,
-    NothingWaits, NoWord,
+    Asleep, Awake, BadCount, BadSlip, Busy, Clear, Fogged, Full, Legible, Lost, NothingLeft, NothingWaits, NotRaising,
+    NotReady,
 )
 from mastword.phrases import signs_of, words_of
 from mastword.signs import check_signs
@@ -199,14 +199,12 @@ class Line:
 
     def enter(self, page, line, word):
         """Enter a word into the phrasebook."""
-        # The phrasebook refuses ahead of all else, so a refused word is no deed.
+        # The phrasebook itself refuses what is wrong, and then it is no deed; likewise when a word is struck.
         self.do(("enter", page, line, word), [(WORDS, (page, line), (), (word,))])
 
     def strike(self, page, line):
         """Strike a word from the phrasebook."""
         word = self.state.phrasebook.word_at(page, line)
-        if word is None:
-            raise NoWord("the place has no word")
         self.do(("strike", page, line), [(WORDS, (page, line), (word,), ())])
 
     def masts(self):

@@ -1,6 +1,6 @@
 """The page of a line: how many masts it has, and the deeds that stand."""
 
-from mastword.deeds import NUMBER, do_deed, read_deed, read_parts
+from mastword.deeds import do_deed, read_deed, read_parts
 from mastword.errors import BadPage, MastError
 from mastword.line import Line
 
@@ -27,7 +27,7 @@ def read_head(row):
     if name != HEAD:
         raise BadPage(0)
     try:
-        parts = read_parts((NUMBER,), texts)
+        parts = read_parts(("number",), texts)
         return Line(parts[0])
     except MastError:
         raise BadPage(0) from None
