@@ -146,7 +146,7 @@ class LineCase(unittest.TestCase):
 
 
 class SecondLine:
-    """A second reading of [2] to [13] and [15] to [19]: by masts and not by places, with whole states kept to go back."""
+    """A second reading of [2] to [13], [15], [16], [18], [19]: by masts, not by places, with whole states kept to go back."""
 
     def __init__(self, masts):
         self.size = masts
